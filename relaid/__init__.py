@@ -1,0 +1,1 @@
+"""Relaid: a line cut into pieces and laid again."""
