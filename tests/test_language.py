@@ -21,6 +21,10 @@ BUILT_IN = set("""len range enumerate zip min max sum abs sorted reversed int st
 METHODS = set("""append clear copy count endswith extend find get index insert isalnum isalpha isdigit islower isspace
     isupper items join keys ljust lower lstrip partition pop remove replace reverse rfind rjust rpartition rsplit
     rstrip setdefault split splitlines startswith strip update upper values zfill bit_length""".split())
+NO_VALUES = set("""items keys values pop update append clear extend insert remove reverse setdefault sort args encode
+    format""".split())
+WALKED = ("zip", "enumerate", "reversed", "range")
+WALKING = ("list", "tuple", "dict", "sorted", "sum", "any", "all", "enumerate", "zip", "min", "max")
 OUT = (ast.With, ast.Match, ast.Delete, ast.Global, ast.Nonlocal, ast.Assert, ast.Yield, ast.YieldFrom, ast.Await,
        ast.AsyncFunctionDef, ast.AsyncFor, ast.AsyncWith, ast.SetComp, ast.DictComp, ast.GeneratorExp, ast.NamedExpr,
        ast.Starred, ast.Div, ast.MatMult, ast.Import)
@@ -116,6 +120,37 @@ class Code(unittest.TestCase):
             self.assertEqual((node.decorator_list, node.keywords), ([], []), name)
             self.assertLessEqual(len(node.bases), 1, (name, node.name))
             self.assertFalse([part for part in node.body if isinstance(part, (ast.Assign, ast.AnnAssign))], node.name)
+
+    def test_no_name_is_a_method_and_a_value(self):
+        methods = {part.name for _, node in nodes(ast.ClassDef) for part in node.body
+                   if isinstance(part, ast.FunctionDef)}
+        values = {node.attr for _, node in nodes(ast.Attribute) if isinstance(node.ctx, ast.Store)}
+        self.assertEqual(methods & values, set())
+        self.assertEqual(values & NO_VALUES, set())
+
+    def test_no_local_is_called_like_a_class_or_an_import(self):
+        for name, tree in trees():
+            taken = {node.name for node in tree.body if isinstance(node, ast.ClassDef)}
+            for node in tree.body:
+                if isinstance(node, ast.ImportFrom):
+                    taken |= {part.asname or part.name for part in node.names}
+            for node in ast.walk(tree):
+                if isinstance(node, ast.arg):
+                    self.assertFalse(node.arg in taken or hasattr(builtins, node.arg), (name, node.arg))
+                if isinstance(node, ast.Name) and isinstance(node.ctx, ast.Store):
+                    self.assertNotIn(node.id, taken, (name, node.lineno))
+
+    def test_walked_at_once(self):
+        for name, tree in trees():
+            walked = set()
+            for node in ast.walk(tree):
+                if isinstance(node, (ast.For, ast.comprehension)):
+                    walked.add(node.iter)
+                if isinstance(node, ast.Call) and isinstance(node.func, ast.Name) and node.func.id in WALKING:
+                    walked |= set(node.args)
+            for node in ast.walk(tree):
+                if isinstance(node, ast.Call) and isinstance(node.func, ast.Name) and node.func.id in WALKED:
+                    self.assertIn(node, walked, (name, node.lineno))
 
     def test_called_methods(self):
         own = {node.name for _, node in nodes(ast.FunctionDef)}
