@@ -4,6 +4,10 @@ from relaid.rests import rest_of
 from relaid.steps import next_step
 
 
+def first_towers(line):
+    return (1,) * len(line.lengths)
+
+
 def towers_behind(towers, step, rest, behind):
     losers = step.losers(rest)
     grown = towers[step.winner] * step.times
@@ -30,7 +34,7 @@ class Chart:
         rest = rest_of(line)
         rests = [rest]
         steps = []
-        towers = [(1,) * len(line.lengths)]
+        towers = [first_towers(line)]
         bands = []
         while rest.size > 0:
             step = next_step(rest)

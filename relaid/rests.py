@@ -22,18 +22,30 @@ def rest_of(line):
     return Rest(list(range(len(line.lengths))), line.order, line.lengths, line.turned)
 
 
-def letter_at(rest, y):
+def letter_in(rest, row, y):
     if y < 0:
         raise Outside("no place of the rest lies below 0")
     end = 0
-    for letter in rest.top:
+    for letter in row:
         end = end + rest.lengths[letter]
         if y < end:
             return letter
     raise Outside("the place lies behind the rest")
 
 
+def gone_between(rest, y, from_row, to_row):
+    letter = letter_in(rest, from_row, y)
+    offset = y - first_places(rest.lengths, from_row)[letter]
+    return moved(rest, letter, offset, first_places(rest.lengths, to_row))
+
+
+def letter_at(rest, y):
+    return letter_in(rest, rest.top, y)
+
+
 def rest_goes(rest, y):
-    letter = letter_at(rest, y)
-    offset = y - first_places(rest.lengths, rest.top)[letter]
-    return moved(rest, letter, offset, first_places(rest.lengths, rest.bottom))
+    return gone_between(rest, y, rest.top, rest.bottom)
+
+
+def rest_comes(rest, y):
+    return gone_between(rest, y, rest.bottom, rest.top)

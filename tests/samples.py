@@ -1,10 +1,11 @@
-"""Lines and rests that the tests share, and what the document asks of them, worked out place by place."""
+"""Lines, charts and rests that the tests share, and what the document asks of them, worked out place by place."""
 
 import signal
 import unittest
 from itertools import permutations, product
 from random import Random
 
+from relaid.charts import Chart
 from relaid.lines import Line
 from relaid.rests import Rest
 
@@ -81,6 +82,67 @@ def drawn_told_lines(pieces, greatest, number, turning=(0, 1, 2)):
     return told
 
 
+def full_told_lines():
+    """Lines of 24 pieces, all of great lengths, the same ones each time, with no, some and all pieces turned."""
+    draw = Random(24)
+    told = []
+    for turns in (0, 1, 2):
+        order = list(range(24))
+        draw.shuffle(order)
+        lengths = [draw.randint(10 ** 27, 4 * 10 ** 28) for _ in order]
+        told.append((lengths, order, [draw.randrange(2) < turns for _ in order]))
+    return told
+
+
+def great_told_lines():
+    """Lines of 24 pieces and great lengths, and some on which a step that isn't told by times would go on and on."""
+    fast = [([1, 10 ** 28], [1, 0], [False, False]), ([10 ** 28, 1], [1, 0], [False, False]),
+            ([10 ** 28, 10 ** 28 - 1, 1], [2, 1, 0], [False, True, False]),
+            ([1] * 23 + [10 ** 28], list(range(23, -1, -1)), [False] * 24),
+            ([10 ** 28] + [1] * 23, list(range(23, -1, -1)), [False] * 24),
+            ([10 ** 28 + p * p for p in range(24)], list(range(23, -1, -1)), [False] * 24)]
+    return fast + full_told_lines() + drawn_told_lines(24, 4 * 10 ** 28, 30)
+
+
+def all_told():
+    return told_lines() + small_told_lines() + drawn_told_lines(7, 12, 200) + great_told_lines()
+
+
+def walked_lines():
+    """Lines that can be gone through place by place."""
+    return small_lines() + [Line(*told) for told in drawn_told_lines(7, 12, 200)]
+
+
+def walked_charts():
+    """Charts of lines that can be gone through place by place, each with the places gone to, by place."""
+    return [(Chart(line), gone_by(line)) for line in walked_lines()]
+
+
+def great_charts():
+    """Charts of lines with great lengths or 24 pieces."""
+    told = [one for one in told_lines() if sum(one[0]) > 10 ** 9 or len(one[0]) == 24]
+    return [Chart(Line(*one)) for one in told + great_told_lines()]
+
+
+def telling_places(chart, most=1000):
+    """Places of a line at and beside the ends of its pieces and of its chart's bands, and some others: at most so many
+    of all these."""
+    line = chart.line
+    draw = Random(line.size)
+    near = list(line.starts) + list(line.laid) + [line.size]
+    for start, width, _, _ in chart.bands:
+        near += [start, start + width, start + width // 2]
+    places = [x + more for x in near for more in (-1, 0, 1)] + [draw.randrange(line.size) for _ in range(20)]
+    places = sorted({x for x in places if 0 <= x < line.size})
+    return sorted(draw.sample(places, min(most, len(places))))
+
+
+def outside_places(line):
+    """Numbers that are no places of a line."""
+    size = line.size
+    return [-1, -2, -size, -size - 1, -GREATEST, -10 ** 60, size, size + 1, 2 * size, size + GREATEST, 10 ** 60]
+
+
 def laid_rows(top, bottom, lengths, turned):
     """By place, after the laying: the place that lies there now. The document's words done with real rows."""
     stretches = {}
@@ -105,6 +167,11 @@ def gone_rows(top, bottom, lengths, turned):
     for y, x in enumerate(row):
         gone[x] = y
     return gone
+
+
+def gone_by(line):
+    """By place of a line: the place that it goes to."""
+    return gone_rows(range(len(line.lengths)), line.order, line.lengths, line.turned)
 
 
 def letters_of(top, lengths):
@@ -158,3 +225,60 @@ def drawn_told_rests():
 
 def small_rests():
     return [Rest(*told) for told in small_told_rests() + drawn_told_rests()]
+
+
+def fought(rest):
+    """Word, winner and loser where the last letters are neither the same nor as long; with the letters behind the
+    winner in the other row, and how often they fit into it whole, some of it being left: never where it is turned."""
+    top, bottom, lengths, turned, _ = rest_fields(rest)
+    a, b = top[-1], bottom[-1]
+    word, winner, loser, row = ("over", a, b, bottom) if lengths[a] > lengths[b] else ("under", b, a, top)
+    losers = row[row.index(winner) + 1:]
+    s = sum(lengths[letter] for letter in losers)
+    most = (lengths[winner] - 1) // s if not turned[winner] and lengths[winner] > s else 0
+    return word, winner, loser, losers, most
+
+
+def closed(rest):
+    """The only step that may be done where the last letters are the same, or as long; else None."""
+    a, b = rest.top[-1], rest.bottom[-1]
+    if a == b:
+        return ("home", a, 1, ())
+    return ("even", a, 1, (b,)) if rest.lengths[a] == rest.lengths[b] else None
+
+
+def step_told(rest):
+    """The next step by the words of 3.3: word, winner, times and losers."""
+    if closed(rest):
+        return closed(rest)
+    word, winner, loser, losers, most = fought(rest)
+    return (word + "s", winner, most, losers) if most else (word, winner, 1, (loser,))
+
+
+def fitting(rest):
+    """All that may be done at a rest, the next step or not, told likewise."""
+    if closed(rest):
+        return [closed(rest)]
+    word, winner, loser, losers, most = fought(rest)
+    return [(word, winner, 1, (loser,))] + [(word + "s", winner, times, losers) for times in range(1, most + 1)]
+
+
+def behind_told(rest, told):
+    """Rows, lengths and turns behind a step, by the words of 3.3."""
+    word, winner, times, losers = told
+    rows = {"top": list(rest.top), "bottom": list(rest.bottom)}
+    lengths, turned = list(rest.lengths), list(rest.turned)
+    if word in ("even", "over", "under"):
+        row = rows["top" if word == "under" else "bottom"]
+        loser = losers[0]
+        row.remove(loser)
+        at = row.index(winner)
+        row.insert(at if word == "even" or turned[winner] else at + 1, loser)
+        turned[loser] = (turned[winner], turned[loser]) in ((True, False), (False, True))
+    if word in ("home", "even"):
+        rows["top"].remove(winner)
+        rows["bottom"].remove(winner)
+        lengths[winner], turned[winner] = 0, False
+    else:
+        lengths[winner] -= times * sum(rest.lengths[loser] for loser in losers)
+    return (tuple(rows["top"]), tuple(rows["bottom"]), tuple(lengths), tuple(turned))

@@ -4,27 +4,8 @@ from relaid.charts import Chart
 from relaid.lines import Line
 from relaid.rests import Rest, rest_of
 from relaid.steps import Home, Step, next_step
-from samples import (GREATEST, Timed, drawn_told_lines, first_return, gone_rows, letters_of, rest_fields, small_lines,
-                     small_told_lines, told_lines)
-
-
-def great_told_lines():
-    """Lines of 24 pieces and great lengths, and some on which a step that isn't told by times would go on and on."""
-    fast = [([1, 10 ** 28], [1, 0], [False, False]), ([10 ** 28, 1], [1, 0], [False, False]),
-            ([10 ** 28, 10 ** 28 - 1, 1], [2, 1, 0], [False, True, False]),
-            ([1] * 23 + [10 ** 28], list(range(23, -1, -1)), [False] * 24),
-            ([10 ** 28] + [1] * 23, list(range(23, -1, -1)), [False] * 24),
-            ([10 ** 28 + p * p for p in range(24)], list(range(23, -1, -1)), [False] * 24)]
-    return fast + drawn_told_lines(24, 4 * 10 ** 28, 30)
-
-
-def all_told():
-    return told_lines() + small_told_lines() + drawn_told_lines(7, 12, 200) + great_told_lines()
-
-
-def walked_lines():
-    """Lines that can be gone through place by place."""
-    return small_lines() + [Line(*told) for told in drawn_told_lines(7, 12, 200)]
+from samples import (GREATEST, Timed, all_told, drawn_told_lines, first_return, gone_by, great_told_lines, letters_of,
+                     rest_fields, told_lines, walked_lines)
 
 
 def step_facts(step, rest):
@@ -185,7 +166,7 @@ class PlaceByPlace(Timed):
     def test_towers_as_counted_by_going(self):
         for line in walked_lines():
             chart = Chart(line)
-            gone = gone_rows(range(len(line.lengths)), line.order, line.lengths, line.turned)
+            gone = gone_by(line)
             for rest, towers in zip(chart.rests, chart.towers):
                 for x, letter in enumerate(letters_of(rest.top, rest.lengths)):
                     self.assertEqual(len(first_return(gone, x, rest.size)) - 1, towers[letter])
@@ -194,7 +175,7 @@ class PlaceByPlace(Timed):
 
     def test_bands_as_counted_by_going(self):
         for line in walked_lines():
-            gone = gone_rows(range(len(line.lengths)), line.order, line.lengths, line.turned)
+            gone = gone_by(line)
             come_through = []
             for start, width, height, turned in Chart(line).bands:
                 for offset in range(width):

@@ -3,8 +3,8 @@ import unittest
 from relaid.lines import Line
 from relaid.rests import Rest, rest_of
 from relaid.steps import Even, Home, Over, Overs, Step, Under, Unders, next_step
-from samples import (GREATEST, Timed, drawn_told_lines, first_return, gone_rows, letters_of, rest_fields, small_rests,
-                     told_lines, told_rest)
+from samples import (GREATEST, Timed, behind_told, drawn_told_lines, first_return, fitting, gone_rows, letters_of,
+                     rest_fields, small_rests, step_told, told_lines, told_rest)
 
 KINDS = {"home": Home, "even": Even, "over": Over, "under": Under, "overs": Overs, "unders": Unders}
 
@@ -18,62 +18,6 @@ def many_rests():
             rests.append(rest)
             rest = Rest(*behind_told(rest, step_told(rest)))
     return rests
-
-
-def fought(rest):
-    """Word, winner and loser where the last letters are neither the same nor as long; with the letters behind the
-    winner in the other row, and how often they fit into it whole, some of it being left: never where it is turned."""
-    top, bottom, lengths, turned, _ = rest_fields(rest)
-    a, b = top[-1], bottom[-1]
-    word, winner, loser, row = ("over", a, b, bottom) if lengths[a] > lengths[b] else ("under", b, a, top)
-    losers = row[row.index(winner) + 1:]
-    s = sum(lengths[letter] for letter in losers)
-    most = (lengths[winner] - 1) // s if not turned[winner] and lengths[winner] > s else 0
-    return word, winner, loser, losers, most
-
-
-def closed(rest):
-    """The only step that may be done where the last letters are the same, or as long; else None."""
-    a, b = rest.top[-1], rest.bottom[-1]
-    if a == b:
-        return ("home", a, 1, ())
-    return ("even", a, 1, (b,)) if rest.lengths[a] == rest.lengths[b] else None
-
-
-def step_told(rest):
-    """The next step by the words of 3.3: word, winner, times and losers."""
-    if closed(rest):
-        return closed(rest)
-    word, winner, loser, losers, most = fought(rest)
-    return (word + "s", winner, most, losers) if most else (word, winner, 1, (loser,))
-
-
-def fitting(rest):
-    """All that may be done at a rest, the next step or not, told likewise."""
-    if closed(rest):
-        return [closed(rest)]
-    word, winner, loser, losers, most = fought(rest)
-    return [(word, winner, 1, (loser,))] + [(word + "s", winner, times, losers) for times in range(1, most + 1)]
-
-
-def behind_told(rest, told):
-    """Rows, lengths and turns behind a step, by the words of 3.3."""
-    word, winner, times, losers = told
-    rows = {"top": list(rest.top), "bottom": list(rest.bottom)}
-    lengths, turned = list(rest.lengths), list(rest.turned)
-    if word in ("even", "over", "under"):
-        row = rows["top" if word == "under" else "bottom"]
-        loser = row.pop()
-        at = row.index(winner)
-        row.insert(at if word == "even" or turned[winner] else at + 1, loser)
-        turned[loser] = (turned[winner], turned[loser]) in ((True, False), (False, True))
-    if word in ("home", "even"):
-        rows["top"].remove(winner)
-        rows["bottom"].remove(winner)
-        lengths[winner], turned[winner] = 0, False
-    else:
-        lengths[winner] -= times * sum(rest.lengths[loser] for loser in losers)
-    return (tuple(rows["top"]), tuple(rows["bottom"]), tuple(lengths), tuple(turned))
 
 
 def by_hand(word, winner, times, losers):
