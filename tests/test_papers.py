@@ -409,6 +409,12 @@ class WholePapers(Papers):
                 bad += not self.check_as_judged(line, about)
         self.assertGreater(bad, 1000)
 
+    def test_two_rows_of_one_winner_may_be_good_both_ways(self):
+        line = Line([2, 8, 2, 1], [0, 2, 3, 1])
+        behind = [("over", 2, 1), ("even", 2, 3), ("even", 3, 1), ("home", 1, 0), ("home", 0, 0)]
+        self.assertEqual(paper_of(Chart(line)), [("unders", 1, 2), ("under", 1, 3)] + behind)
+        self.check(line, [("under", 1, 3), ("unders", 1, 2)] + behind, True)
+
     def test_a_row_changed(self):
         for told in drawn_told_lines(7, 12, 40) + great_told_lines()[:8]:
             line = Line(*told)
