@@ -4,14 +4,6 @@ from relaid.errors import BadAddress, Outside
 from relaid.rests import letter_at, rest_comes, rest_goes
 
 
-class Spot:
-    # A place of some rest, the letter that it lies in there, and the goings of the line that are still due from it.
-    def __init__(self, letter, y, due):
-        self.letter = letter
-        self.y = y
-        self.due = due
-
-
 def share_of(chart, at):
     # Each of a step's times leaves out as many places, and a winner told by times goes by just so many places.
     return (chart.rests[at].size - chart.rests[at + 1].size) // chart.steps[at].times
@@ -58,43 +50,61 @@ def refuse_address(chart, told):
         raise BadAddress("no such level of the band")
 
 
-def lifted_own_first(chart, at, spot):
+class Part:
+    # How far a loser's going is done: its own goings and the winner's that are whole, the letter of the one that comes
+    # then, and the goings of the line that are still due of that one.
+    def __init__(self, own, times, letter, due):
+        self.own = own
+        self.times = times
+        self.letter = letter
+        self.due = due
+
+
+def part_own_first(step, towers, letter, due):
+    if due < towers[letter]:
+        return Part(0, 0, letter, due)
+    left = due - towers[letter]
+    return Part(1, left // towers[step.winner], step.winner, left % towers[step.winner])
+
+
+def part_own_last(step, towers, letter, due):
+    times = min(due // towers[step.winner], step.times)
+    coming = letter if times == step.times else step.winner
+    return Part(0, times, coming, due - times * towers[step.winner])
+
+
+def part_done(chart, at, letter, due):
+    # From the rest behind a step to the rest ahead: there fewer goings than the tower of the told letter are due.
     step = chart.steps[at]
-    towers = chart.towers[at]
-    due = spot.due - towers[spot.letter]
-    if due < 0:
-        return spot
-    times = due // towers[step.winner]
-    y = rest_goes(chart.rests[at], spot.y) - times * share_of(chart, at)
-    return Spot(step.winner, y, due - times * towers[step.winner])
-
-
-def lifted_own_last(chart, at, spot):
-    step = chart.steps[at]
-    tower = chart.towers[at][step.winner]
-    times = min(spot.due // tower, step.times)
-    if times == 0:
-        return Spot(step.winner, spot.y, spot.due)
-    letter = spot.letter if times == step.times else step.winner
-    y = rest_goes(chart.rests[at], spot.y) + (times - 1) * share_of(chart, at)
-    return Spot(letter, y, spot.due - times * tower)
-
-
-def lifted(chart, at, spot):
-    # From the rest behind a step to the rest ahead: there fewer goings than the tower of the spot's letter are due.
-    step = chart.steps[at]
-    if spot.letter not in step.losers(chart.rests[at]):
-        return spot
+    if letter not in step.losers(chart.rests[at]):
+        return Part(0, 0, letter, due)
     if step.own_first():
-        return lifted_own_first(chart, at, spot)
-    return lifted_own_last(chart, at, spot)
+        return part_own_first(step, chart.towers[at], letter, due)
+    return part_own_last(step, chart.towers[at], letter, due)
+
+
+def gone_by_part(chart, at, y, part):
+    if part.own == 0 and part.times == 0:
+        return y
+    gone = rest_goes(chart.rests[at], y)
+    if chart.steps[at].own_first():
+        return gone - part.times * share_of(chart, at)
+    return gone + (part.times - 1) * share_of(chart, at)
+
+
+def homes_of(chart):
+    return [at for at, step in enumerate(chart.steps) if step.word() == "home"]
 
 
 def place(chart, told):
     refuse_address(chart, told)
-    start = chart.bands[told[0]][0]
-    home = [rest.size for rest in chart.rests].index(start) - 1
-    spot = Spot(chart.steps[home].winner, start + told[1], told[2])
+    home = homes_of(chart)[told[0]]
+    y = chart.bands[told[0]][0] + told[1]
+    letter = chart.steps[home].winner
+    due = told[2]
     for at in range(home - 1, -1, -1):
-        spot = lifted(chart, at, spot)
-    return spot.y
+        part = part_done(chart, at, letter, due)
+        y = gone_by_part(chart, at, y, part)
+        letter = part.letter
+        due = part.due
+    return y

@@ -6,10 +6,13 @@ from itertools import permutations, product
 from random import Random
 
 from relaid.charts import Chart
+from relaid.going import goes
 from relaid.lines import Line
 from relaid.rests import Rest
 
 GREATEST = 10 ** 30
+FARTHEST = 10 ** 60
+FACTORS = (2, 3, 10 ** 27, 10 ** 27 + 1)
 MOST_SECONDS = 30
 
 
@@ -23,6 +26,11 @@ class Timed(unittest.TestCase):
 
     def too_long(self, number, frame):
         self.fail("not done within half a minute")
+
+    def refused(self, error, asked, *told):
+        with self.assertRaises(error) as caught:
+            asked(*told)
+        self.assertIs(type(caught.exception), error)
 
 
 def told_lines():
@@ -118,23 +126,35 @@ def walked_charts():
     return [(Chart(line), gone_by(line)) for line in walked_lines()]
 
 
-def great_charts():
-    """Charts of lines with great lengths or 24 pieces."""
+def great_lines():
+    """Lines with great lengths or 24 pieces."""
     told = [one for one in told_lines() if sum(one[0]) > 10 ** 9 or len(one[0]) == 24]
-    return [Chart(Line(*one)) for one in told + great_told_lines()]
+    return [Line(*one) for one in told + great_told_lines()]
 
 
-def telling_places(chart, most=1000):
-    """Places of a line at and beside the ends of its pieces and of its chart's bands, and some others: at most so many
-    of all these."""
-    line = chart.line
+def great_charts():
+    return [Chart(line) for line in great_lines()]
+
+
+def places_near(line, near, most):
+    """Places of a line at and beside the told ones, and some others: at most so many of all these."""
     draw = Random(line.size)
-    near = list(line.starts) + list(line.laid) + [line.size]
-    for start, width, _, _ in chart.bands:
-        near += [start, start + width, start + width // 2]
     places = [x + more for x in near for more in (-1, 0, 1)] + [draw.randrange(line.size) for _ in range(20)]
     places = sorted({x for x in places if 0 <= x < line.size})
     return sorted(draw.sample(places, min(most, len(places))))
+
+
+def piece_ends(line, most=1000):
+    """Places of a line near the ends of its pieces, as they lie and as they are laid, and some others."""
+    return places_near(line, line.starts + line.laid + (line.size,), most)
+
+
+def telling_places(chart, most=1000):
+    """Places of a line near the ends of its pieces and of its chart's bands, and some others."""
+    near = list(chart.line.starts + chart.line.laid) + [chart.line.size]
+    for start, width, _, _ in chart.bands:
+        near += [start, start + width, start + width // 2]
+    return places_near(chart.line, near, most)
 
 
 def outside_places(line):
@@ -282,3 +302,111 @@ def behind_told(rest, told):
     else:
         lengths[winner] -= times * sum(rest.lengths[loser] for loser in losers)
     return (tuple(rows["top"]), tuple(rows["bottom"]), tuple(lengths), tuple(turned))
+
+
+def round_of(gone, x):
+    """The places of the round of x, as it comes through them, x first."""
+    way = [x]
+    while gone[way[-1]] != x:
+        way.append(gone[way[-1]])
+    return way
+
+
+def counted(lengths):
+    """Pairs of a length and how often it is there, by rising lengths."""
+    return [(length, lengths.count(length)) for length in sorted(set(lengths))]
+
+
+def all_rounds(gone):
+    seen = set()
+    ways = []
+    for x in range(len(gone)):
+        if x not in seen:
+            ways.append(round_of(gone, x))
+            seen |= set(ways[-1])
+    return ways
+
+
+class Drawn:
+    """A small line, each place of which is drawn out to a stretch of as many places: a stretch goes as its place did,
+    and is turned about where the place's piece is turned. So great lines are known by walks on small ones."""
+
+    def __init__(self, told, factor):
+        lengths, order, turned = told
+        self.factor = factor
+        self.gone = gone_by(Line(lengths, order, turned))
+        self.pieces = letters_of(range(len(lengths)), lengths)
+        self.turns = [turned[piece] for piece in self.pieces]
+        self.chart = Chart(Line([factor * length for length in lengths], order, turned))
+
+    def turned_round(self, way):
+        return sum(self.turns[x] for x in way) % 2 == 1
+
+    def after(self, x, goings):
+        small, offset = divmod(x, self.factor)
+        way = round_of(self.gone, small)
+        times_round, more = divmod(goings, len(way))
+        turns = sum(self.turns[x] for x in way[:more]) + times_round * sum(self.turns[x] for x in way)
+        return way[more] * self.factor + (self.factor - 1 - offset if turns % 2 else offset)
+
+    def visits(self, x, goings):
+        way = round_of(self.gone, x // self.factor)
+        times_round, more = divmod(goings, len(way))
+        through = [[self.pieces[x] for x in part] for part in (way, way[:more])]
+        return tuple(times_round * through[0].count(piece) + through[1].count(piece)
+                     for piece in range(len(self.chart.line.lengths)))
+
+    def round_length(self, x):
+        small, offset = divmod(x, self.factor)
+        way = round_of(self.gone, small)
+        return len(way) * (2 if self.turned_round(way) and 2 * offset != self.factor - 1 else 1)
+
+    def rounds(self):
+        counts = {}
+        for way in all_rounds(self.gone):
+            many = {len(way): self.factor}
+            if self.turned_round(way):
+                many = {len(way): self.factor % 2, 2 * len(way): self.factor // 2}
+            for length in many:
+                counts[length] = counts.get(length, 0) + many[length]
+        return [(length, counts[length]) for length in sorted(counts) if counts[length]]
+
+    def places(self):
+        return [small * self.factor + offset for small in range(len(self.gone))
+                for offset in sorted({0, self.factor // 2, self.factor - 1})]
+
+
+def drawn_out():
+    told = drawn_told_lines(5, 4, 12) + small_told_lines()[::97]
+    return [Drawn(one, factor) for one in told for factor in FACTORS]
+
+
+def line_fields(line):
+    return (line.lengths, line.order, line.turned)
+
+
+def plain_told(gone):
+    """Lengths, order and turns of the plain line of a going, by the words of 8.1, place by place."""
+    stretches = [[0]]
+    for x in range(1, len(gone)):
+        if abs(gone[x] - gone[x - 1]) == 1:
+            stretches[-1].append(x)
+        else:
+            stretches.append([x])
+    lengths = tuple(len(stretch) for stretch in stretches)
+    order = tuple(sorted(range(len(stretches)), key=lambda piece: gone[stretches[piece][0]]))
+    turned = tuple(len(stretch) > 1 and gone[stretch[1]] < gone[stretch[0]] for stretch in stretches)
+    return (lengths, order, turned)
+
+
+def cut_otherwise(line, draw, most=24):
+    """A line of the same going, cut into more pieces, up to the most or 24; turns of single places are drawn anew."""
+    cuts = set(line.starts)
+    while len(cuts) < min(most, 24, line.size):
+        cuts.add(draw.randrange(line.size))
+    cuts = sorted(cuts)
+    lengths = [end - start for start, end in zip(cuts, cuts[1:] + [line.size])]
+    laid = [min(goes(line, start), goes(line, start + length - 1)) for start, length in zip(cuts, lengths)]
+    turned = [draw.random() < 0.5 if length == 1 else goes(line, start) > goes(line, start + 1)
+              for start, length in zip(cuts, lengths)]
+    return Line(lengths, sorted(range(len(cuts)), key=lambda piece: laid[piece]), turned)

@@ -131,11 +131,6 @@ class GreatLines(Timed):
 
 
 class Refusals(Timed):
-    def refused(self, error, asked, *told):
-        with self.assertRaises(error) as caught:
-            asked(*told)
-        self.assertIs(type(caught.exception), error)
-
     def test_numbers_that_are_no_place(self):
         for told in told_lines():
             chart = Chart(Line(*told))

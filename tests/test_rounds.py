@@ -7,91 +7,13 @@ from relaid.errors import Outside
 from relaid.going import comes, goes
 from relaid.lines import Line
 from relaid.rounds import after, between, round_length, rounds
-from samples import (GREATEST, Timed, drawn_told_lines, gone_by, great_charts, laid_out, letters_of, outside_places,
-                     small_lines, small_told_lines, telling_places, told_lines, walked_charts)
+from samples import (FARTHEST, GREATEST, Timed, all_rounds, counted, drawn_out, gone_by, great_charts, laid_out,
+                     outside_places, round_of, small_lines, telling_places, told_lines, walked_charts)
 
-FARTHEST = 10 ** 60
 FAR = (0, 1, 2, 3, 10 ** 28, 10 ** 30 - 1, 7 ** 50, FARTHEST - 1, FARTHEST)
-FACTORS = (2, 3, 10 ** 27, 10 ** 27 + 1)
 
 
-def round_of(gone, x):
-    """The places of the round of x, as it comes through them, x first."""
-    way = [x]
-    while gone[way[-1]] != x:
-        way.append(gone[way[-1]])
-    return way
-
-
-def counted(lengths):
-    """Pairs of a length and how often it is there, by rising lengths."""
-    return [(length, lengths.count(length)) for length in sorted(set(lengths))]
-
-
-def all_rounds(gone):
-    seen = set()
-    ways = []
-    for x in range(len(gone)):
-        if x not in seen:
-            ways.append(round_of(gone, x))
-            seen |= set(ways[-1])
-    return ways
-
-
-class Drawn:
-    """A small line, each place of which is drawn out to a stretch of as many places: a stretch goes as its place did,
-    and is turned about where the place's piece is turned. So great lines are known by walks on small ones."""
-
-    def __init__(self, told, factor):
-        lengths, order, turned = told
-        self.factor = factor
-        self.gone = gone_by(Line(lengths, order, turned))
-        self.turns = [turned[piece] for piece in letters_of(range(len(lengths)), lengths)]
-        self.chart = Chart(Line([factor * length for length in lengths], order, turned))
-
-    def turned_round(self, way):
-        return sum(self.turns[x] for x in way) % 2 == 1
-
-    def after(self, x, goings):
-        small, offset = divmod(x, self.factor)
-        way = round_of(self.gone, small)
-        times_round, more = divmod(goings, len(way))
-        turns = sum(self.turns[x] for x in way[:more]) + times_round * sum(self.turns[x] for x in way)
-        return way[more] * self.factor + (self.factor - 1 - offset if turns % 2 else offset)
-
-    def round_length(self, x):
-        small, offset = divmod(x, self.factor)
-        way = round_of(self.gone, small)
-        return len(way) * (2 if self.turned_round(way) and 2 * offset != self.factor - 1 else 1)
-
-    def rounds(self):
-        counts = {}
-        for way in all_rounds(self.gone):
-            many = {len(way): self.factor}
-            if self.turned_round(way):
-                many = {len(way): self.factor % 2, 2 * len(way): self.factor // 2}
-            for length in many:
-                counts[length] = counts.get(length, 0) + many[length]
-        return [(length, counts[length]) for length in sorted(counts) if counts[length]]
-
-    def places(self):
-        return [small * self.factor + offset for small in range(len(self.gone))
-                for offset in sorted({0, self.factor // 2, self.factor - 1})]
-
-
-def drawn_out():
-    told = drawn_told_lines(5, 4, 12) + small_told_lines()[::97]
-    return [Drawn(one, factor) for one in told for factor in FACTORS]
-
-
-class Refusing(Timed):
-    def refused(self, asked, *told):
-        with self.assertRaises(Outside) as caught:
-            asked(*told)
-        self.assertIs(type(caught.exception), Outside)
-
-
-class After(Refusing):
+class After(Timed):
     def test_told(self):
         chart = Chart(Line([6, 4], [1, 0]))
         self.assertEqual([after(chart, 0, goings) for goings in range(-6, 7)],
@@ -169,10 +91,10 @@ class After(Refusing):
             chart = Chart(Line(*told))
             for x in outside_places(chart.line):
                 for goings in (0, 1, -1, FARTHEST, -FARTHEST):
-                    self.refused(after, chart, x, goings)
+                    self.refused(Outside, after, chart, x, goings)
 
 
-class Rounds(Refusing):
+class Rounds(Timed):
     def test_told(self):
         for told, asked in ((([6, 4], [1, 0]), [(5, 2)]),
                             (([3, 5, 2], [0, 1, 2]), [(1, 10)]),
@@ -252,10 +174,10 @@ class Rounds(Refusing):
         for told in told_lines():
             chart = Chart(Line(*told))
             for x in outside_places(chart.line):
-                self.refused(round_length, chart, x)
+                self.refused(Outside, round_length, chart, x)
 
 
-class Between(Refusing):
+class Between(Timed):
     def test_told(self):
         chart = Chart(Line([6, 4], [1, 0]))
         self.assertEqual([between(chart, 0, y) for y in range(10)], [0, None, 3, None, 1, None, 4, None, 2, None])
@@ -330,13 +252,13 @@ class Between(Refusing):
         for told in told_lines():
             chart = Chart(Line(*told))
             for x in outside_places(chart.line):
-                self.refused(between, chart, x, x)
-                self.refused(between, chart, x, 0)
-                self.refused(between, chart, 0, x)
-                self.refused(between, chart, x, chart.line.size - 1)
-                self.refused(between, chart, chart.line.size - 1, x)
-                self.refused(between, chart, x, -1)
-                self.refused(between, chart, x, chart.line.size)
+                self.refused(Outside, between, chart, x, x)
+                self.refused(Outside, between, chart, x, 0)
+                self.refused(Outside, between, chart, 0, x)
+                self.refused(Outside, between, chart, x, chart.line.size - 1)
+                self.refused(Outside, between, chart, chart.line.size - 1, x)
+                self.refused(Outside, between, chart, x, -1)
+                self.refused(Outside, between, chart, x, chart.line.size)
 
 
 class Asking(Timed):
