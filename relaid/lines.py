@@ -24,6 +24,12 @@ def refuse_order(order, pieces):
         raise BadOrder("an order tells each piece's number just once")
 
 
+def refuse_order_of(order, fewest, most):
+    if len(order) < fewest or len(order) > most:
+        raise BadOrder("an order of too few or too many pieces")
+    refuse_order(order, len(order))
+
+
 def refuse_turned(turned, pieces):
     if len(turned) != pieces:
         raise BadTurned("a list of turns has one entry for each piece")

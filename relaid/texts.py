@@ -16,9 +16,9 @@ def written(line):
     return f"{lengths}\n{laid}\n"
 
 
-def is_number(word):
+def is_number(word, figures):
     # The figures are counted first: Python refuses to read very long numbers, with an error of its own.
-    if word == "" or len(word) > MOST_FIGURES:
+    if word == "" or len(word) > figures:
         return False
     if word[0] == "0" and word != "0":
         return False
@@ -31,12 +31,12 @@ def without_turn(word):
 
 def is_length_row(row):
     words = row.split(" ")
-    return words[0] == "pieces" and all([is_number(word) for word in words[1:]])
+    return words[0] == "pieces" and all([is_number(word, MOST_FIGURES) for word in words[1:]])
 
 
 def is_laid_row(row):
     words = row.split(" ")
-    return words[0] == "laid" and all([is_number(without_turn(word)) for word in words[1:]])
+    return words[0] == "laid" and all([is_number(without_turn(word), MOST_FIGURES) for word in words[1:]])
 
 
 def refuse_rows(rows):

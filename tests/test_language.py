@@ -94,6 +94,24 @@ class Code(unittest.TestCase):
         for name, node in nodes(ast.Assign):
             self.assertEqual(len(node.targets), 1, (name, node.lineno))
 
+    def test_errors_taken_are_the_programs_own(self):
+        own = {node.name for name, node in nodes(ast.ClassDef) if name == "errors.py"}
+        for name, node in nodes(ast.ExceptHandler):
+            self.assertIsInstance(node.type, ast.Name, (name, node.lineno))
+            self.assertIn(node.type.id, own, (name, node.lineno))
+
+    def test_sets_are_made_and_used_up_at_once(self):
+        for name, tree in trees():
+            used = set()
+            for node in ast.walk(tree):
+                if isinstance(node, ast.Call) and isinstance(node.func, ast.Name) and node.func.id in ("sorted", "len"):
+                    used |= set(node.args)
+                if isinstance(node, ast.Compare):
+                    used |= {node.left} | set(node.comparators)
+            for node in ast.walk(tree):
+                if isinstance(node, ast.Call) and isinstance(node.func, ast.Name) and node.func.id == "set":
+                    self.assertIn(node, used, (name, node.lineno))
+
     def test_values(self):
         for name, node in nodes(ast.Constant):
             self.assertIn(type(node.value), (int, str, bool, type(None)), (name, node.lineno))
